@@ -5,6 +5,7 @@ import (
 	"cmp"
 
 	"baggage/api"
+	"baggage/ascii"
 )
 
 // A text has a digit for Lead, then those of Airline, then those of Serial.
@@ -28,36 +29,20 @@ func Valid(p api.Plate) bool {
 
 // Parse returns the plate with the text s.
 func Parse(s string) (api.Plate, api.Errno) {
-	if len(s) != length || !onlyDigits(s) {
+	if len(s) != length {
 		return api.Plate{}, api.ErrSyntax
 	}
-	p := api.Plate{
-		Lead:    value(s[:airlineAt]),
-		Airline: value(s[airlineAt:serialAt]),
-		Serial:  value(s[serialAt:]),
+	lead, leadRead := ascii.Value(s[:airlineAt])
+	airline, airlineRead := ascii.Value(s[airlineAt:serialAt])
+	serial, serialRead := ascii.Value(s[serialAt:])
+	if !leadRead || !airlineRead || !serialRead {
+		return api.Plate{}, api.ErrSyntax
 	}
+	p := api.Plate{Lead: lead, Airline: airline, Serial: serial}
 	if !Valid(p) {
 		return api.Plate{}, api.ErrRange
 	}
 	return p, api.OK
-}
-
-func onlyDigits(s string) bool {
-	for i := range len(s) {
-		if s[i] < '0' || s[i] > '9' {
-			return false
-		}
-	}
-	return true
-}
-
-// value returns the number that the digits stand for.
-func value(digits string) int {
-	n := 0
-	for i := range len(digits) {
-		n = n*10 + int(digits[i]-'0')
-	}
-	return n
 }
 
 // Format returns the text of p, or the empty string if p is not valid.
@@ -66,18 +51,10 @@ func Format(p api.Plate) string {
 		return ""
 	}
 	var text [length]byte
-	write(text[:airlineAt], p.Lead)
-	write(text[airlineAt:serialAt], p.Airline)
-	write(text[serialAt:], p.Serial)
+	ascii.Write(text[:airlineAt], p.Lead)
+	ascii.Write(text[airlineAt:serialAt], p.Airline)
+	ascii.Write(text[serialAt:], p.Serial)
 	return string(text[:])
-}
-
-// write fills digits with those of n, from the last one on, so that zeros lead a small n.
-func write(digits []byte, n int) {
-	for i := range len(digits) {
-		digits[len(digits)-1-i] = byte('0' + n%10)
-		n /= 10
-	}
 }
 
 // Compare orders plates by Lead, Airline and Serial. It compares rather than subtracts, because the parts of an invalid plate may be too far apart for a difference.
