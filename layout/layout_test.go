@@ -496,6 +496,18 @@ func TestFind(t *testing.T) { // P7.4
 	}
 }
 
+func TestIsBin(t *testing.T) { // the terms of chapter 7
+	bins := []int{api.NodeStore, api.NodeChute, api.NodeManual}
+	for _, kind := range []int{math.MinInt, -1, 0, 1, 2, 3, 4, 5, 6, 7, 8, 9, 10, math.MaxInt} {
+		for length := range 3 {
+			n := node("N", kind, length, 0)
+			if got := IsBin(n); got != slices.Contains(bins, kind) {
+				t.Errorf("%v: %v", n, got)
+			}
+		}
+	}
+}
+
 func TestSame(t *testing.T) { // P7.4
 	different := []api.Layout{{}, small(), plan(), largest()}
 	for _, set := range []func(*api.Layout){
