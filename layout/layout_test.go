@@ -508,6 +508,21 @@ func TestIsBin(t *testing.T) { // the terms of chapter 7
 	}
 }
 
+func TestHasWindow(t *testing.T) { // the terms of chapter 7
+	l := plan()
+	for _, i := range append(upTo(len(l.Nodes)), math.MinInt, -1, len(l.Nodes), math.MaxInt) {
+		for _, window := range append(upTo(api.MaxLength+2), math.MinInt, -1, math.MaxInt) {
+			want := i >= 0 && i < len(l.Nodes) && window >= 0 && window < l.Nodes[i].Length
+			if got := HasWindow(l, i, window); got != want {
+				t.Errorf("%d, %d: %v", i, window, got)
+			}
+		}
+	}
+	if HasWindow(api.Layout{}, 0, 0) {
+		t.Error("a window of no node")
+	}
+}
+
 func TestSame(t *testing.T) { // P7.4
 	different := []api.Layout{{}, small(), plan(), largest()}
 	for _, set := range []func(*api.Layout){
