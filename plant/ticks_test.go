@@ -580,3 +580,18 @@ func TestResultsShareNoMemory(t *testing.T) { // rule 2
 		}
 	}
 }
+
+func TestClone(t *testing.T) { // rule 2
+	p := sparePlant(plantOf(t, all(t), "S=12 L=003 V=04 P=56 Q=7 K=008 M=9"))
+	want, c := flat(p), Clone(p)
+	if !equal(c, p) {
+		t.Error(c, p)
+	}
+	overwrite(c)
+	if !slices.Equal(flat(p), want) {
+		t.Error("a copy shares memory with the plant:", p)
+	}
+	if c := Clone(api.Plant{}); !isZero(c) {
+		t.Error(c)
+	}
+}
